@@ -1,0 +1,1 @@
+"""Sieve: which parcels a gate lets by, and how their answers come back."""

@@ -1,0 +1,196 @@
+"""Looks at a file of the package for what LANGUAGE.md rules out, as far as a look at its form can tell."""
+
+import ast
+import builtins
+import re
+
+PACKAGE = "sieve"
+
+ALLOWED_NODES = tuple(getattr(ast, name) for name in (
+    "Module Expr Assign AugAssign AnnAssign If While For Return Break Continue Pass Raise Try ExceptHandler "
+    "FunctionDef ClassDef ImportFrom Import alias arguments arg Lambda "
+    "Constant List Tuple Dict Set BinOp UnaryOp BoolOp Compare IfExp Call keyword Attribute Subscript Slice Name "
+    "ListComp comprehension JoinedStr FormattedValue expr_context operator unaryop boolop cmpop"
+).split())
+REFUSED_NODES = (ast.Div, ast.MatMult)
+
+OWN_NAMES = (
+    "len range enumerate zip min max sum abs sorted reversed int str bool list tuple dict set frozenset isinstance "
+    "ord repr any all divmod Exception ValueError TypeError KeyError IndexError LookupError ZeroDivisionError "
+    "ArithmeticError OverflowError RuntimeError NotImplementedError AttributeError StopIteration"
+).split()
+OWN_METHODS = (
+    "append clear copy count endswith extend find get index insert isalnum isalpha isdigit islower isspace isupper "
+    "items join keys ljust lower lstrip partition pop remove replace reverse rfind rjust rpartition rsplit rstrip "
+    "setdefault split splitlines startswith strip update upper values zfill bit_length"
+).split()
+DOUBLE_METHODS = "__init__ __eq__ __repr__ __str__ __len__".split()
+REFUSED_ATTRIBUTES = (
+    "format format_map mro register elements open input version_info with_traceback add_note"
+).split()
+REFUSED_WORDS = (
+    "type typing typing_extensions enum Enum IntEnum StrEnum Flag IntFlag Generic Protocol ABC ABCMeta namedtuple "
+    "NamedTuple TypedDict TYPE_CHECKING abstractmethod"
+).split()
+REFUSED_WITHIN_WORDS = "dataclass overload contextmanager".split()
+
+
+def text_faults(text):
+    """L10, L14 and L17, of a file's text as it stands."""
+    rows = text.split("\n")
+    faults = [f"L10 row {number}" for number, row in enumerate(rows, start=1) if len(row) > 120]
+    faults += ["L10 too many rows"] if len(rows) > 401 else []
+    faults += [f"L14 sign {sign!r}" for sign in text if not (" " <= sign <= "~" or sign == "\n")]
+    words = re.findall(r"\w+", text)
+    faults += [f"L17 {word}" for word in words if word in REFUSED_WORDS]
+    faults += [f"L17 {word}" for word in words for part in REFUSED_WITHIN_WORDS if part in word]
+    return faults
+
+
+def import_faults(node):
+    module = getattr(node, "module", None) or ""
+    own = isinstance(node, ast.ImportFrom) and node.level == 0 and module.startswith(PACKAGE + ".")
+    if own and all(alias.name != "*" for alias in node.names):
+        return []
+    return [f"L2 row {node.lineno}"]
+
+
+def is_plain_value(node):
+    if isinstance(node, (ast.List, ast.Tuple)):
+        return all(is_plain_value(part) for part in node.elts)
+    if isinstance(node, ast.Dict):
+        return all(is_plain_value(part) for part in node.keys + node.values)
+    return isinstance(node, (ast.Constant, ast.Name))
+
+
+def top_faults(tree):
+    """L3 and L15, of what stands at a file's top."""
+    faults = []
+    bound = []
+    for node in tree.body:
+        if isinstance(node, (ast.FunctionDef, ast.ClassDef)):
+            bound.append(node.name)
+        elif isinstance(node, ast.Assign) and is_plain_value(node.value):
+            bound += [target.id for target in node.targets]
+        elif isinstance(node, (ast.Import, ast.ImportFrom)):
+            bound += [alias.asname or alias.name for alias in node.names]
+        elif not (isinstance(node, ast.Expr) and isinstance(node.value, ast.Constant)):
+            faults.append(f"L3 row {node.lineno}")
+    return faults + [f"L15 {name} twice" for name in sorted(set(bound)) if bound.count(name) > 1]
+
+
+def function_faults(node):
+    """L4, L10, L12 and L15, of a def."""
+    given = node.args
+    faults = []
+    if given.vararg or given.kwarg or given.kwonlyargs or node.decorator_list:
+        faults.append(f"L4 row {node.lineno}")
+    if node.end_lineno - node.lineno >= 40:
+        faults.append(f"L10 {node.name}")
+    faults += [f"L15 {arg.arg}" for arg in given.args if hasattr(builtins, arg.arg)]
+    faults += [f"L12 {arg.arg}" for arg in given.args if arg.arg.startswith("_")]
+    if node.name.startswith("_") and node.name not in DOUBLE_METHODS:
+        faults.append(f"L12 {node.name}")
+    return faults
+
+
+def class_faults(node):
+    """L5, of a class."""
+    bare = [part for part in node.body if not isinstance(part, (ast.FunctionDef, ast.Pass))]
+    docs = [part for part in bare if isinstance(part, ast.Expr) and isinstance(part.value, ast.Constant)]
+    plain = len(node.bases) <= 1 and not node.decorator_list and not node.keywords and len(bare) == len(docs)
+    return [] if plain else [f"L5 {node.name}"]
+
+
+def is_power_of_two(node):
+    """L27: a power of two that has no written exponent."""
+    power = isinstance(node, ast.BinOp) and isinstance(node.op, ast.Pow)
+    return power and isinstance(node.left, ast.Constant) and not isinstance(node.right, ast.Constant)
+
+
+def compare_faults(node):
+    """L20: whether `is` stands beside None, True or False."""
+    faults = []
+    for sign, right in zip(node.ops, node.comparators):
+        if isinstance(sign, (ast.Is, ast.IsNot)):
+            sides = [side.value for side in (node.left, right) if isinstance(side, ast.Constant)]
+            if not [side for side in sides if side in (None, True, False)]:
+                faults.append(f"L20 row {node.lineno}")
+    return faults
+
+
+def name_faults(node):
+    """L8, L12 and L15, of a name where it is read or bound."""
+    own = hasattr(builtins, node.id)
+    if own and isinstance(node.ctx, ast.Store):
+        return [f"L15 {node.id}"]
+    if own and node.id not in OWN_NAMES:
+        return [f"L8 {node.id}"]
+    return [f"L12 {node.id}"] if node.id.startswith("_") else []
+
+
+def constant_faults(node):
+    """L7 and L27, of a written value."""
+    if isinstance(node.value, (float, complex, bytes)) or node.value is ...:
+        return [f"L7 row {node.lineno}"]
+    return [f"L27 row {node.lineno}"] if isinstance(node.value, str) and "%" in node.value else []
+
+
+def attribute_faults(node):
+    """L12, L17 and L26, of a method or a value."""
+    if node.attr in REFUSED_ATTRIBUTES or (node.attr.startswith("_") and node.attr not in DOUBLE_METHODS):
+        return [f"L17 {node.attr}"]
+    return []
+
+
+def method_faults(tree, own_methods):
+    """L25: methods that are neither the package's own nor listed."""
+    called = [node.func.attr for node in ast.walk(tree)
+              if isinstance(node, ast.Call) and isinstance(node.func, ast.Attribute)]
+    allowed = OWN_METHODS + DOUBLE_METHODS + own_methods
+    return [f"L25 {name}" for name in called if name not in allowed]
+
+
+LOOKS = {
+    ast.Import: import_faults,
+    ast.ImportFrom: import_faults,
+    ast.FunctionDef: function_faults,
+    ast.ClassDef: class_faults,
+    ast.Compare: compare_faults,
+    ast.Name: name_faults,
+    ast.Constant: constant_faults,
+    ast.Attribute: attribute_faults,
+}
+
+
+def node_faults(node):
+    faults = []
+    if not isinstance(node, ALLOWED_NODES) or isinstance(node, REFUSED_NODES):
+        faults.append(f"L6/L7 {node.__class__.__name__}")
+    if isinstance(node, ast.Assign) and len(node.targets) > 1:
+        faults.append(f"L6 row {node.lineno}")
+    if isinstance(node, (ast.For, ast.While)) and node.orelse:
+        faults.append(f"L6 row {node.lineno}")
+    if isinstance(node, ast.Try) and (node.finalbody or [one for one in node.handlers if one.type is None]):
+        faults.append(f"L6 row {node.lineno}")
+    if isinstance(node, ast.ListComp) and (len(node.generators) > 1 or len(node.generators[0].ifs) > 1):
+        faults.append(f"L7 row {node.lineno}")
+    if is_power_of_two(node):
+        faults.append(f"L27 row {node.lineno}")
+    look = LOOKS.get(node.__class__)
+    return faults + (look(node) if look else [])
+
+
+def methods_of(tree):
+    """The names of the methods that a file's classes define."""
+    classes = [node for node in tree.body if isinstance(node, ast.ClassDef)]
+    return [part.name for node in classes for part in node.body if isinstance(part, ast.FunctionDef)]
+
+
+def faults_of(text, own_methods=()):
+    """Each fault that is seen in a file's text, with its rule's number."""
+    tree = ast.parse(text)
+    faults = text_faults(text) + top_faults(tree) + method_faults(tree, list(own_methods))
+    for node in ast.walk(tree):
+        faults += node_faults(node)
+    return faults

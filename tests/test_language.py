@@ -1,0 +1,61 @@
+"""That the package keeps to LANGUAGE.md, as far as a look at its files can tell."""
+
+import ast
+import pathlib
+import unittest
+
+from language import faults_of, methods_of
+
+FOLDER = pathlib.Path(__file__).resolve().parent.parent / "sieve"
+
+REFUSED = {
+    "L2": ("import os", "from os import path", "from sieve.bits import *", "from .bits import parts"),
+    "L3": ("x = 1\nif x:\n    pass", "x = 2 ** 5", "x = [n for n in (1, 2)]"),
+    "L4": ("def f(*xs):\n    return xs", "def f(**xs):\n    return xs", "@g\ndef f():\n    return 1"),
+    "L5": ("class A(B, C):\n    pass", "class A:\n    x = 1"),
+    "L6": ("def f():\n    a = b = 1", "def f():\n    assert 1", "def f():\n    with g:\n        pass"),
+    "L7": ("x = 1.5", "def f(a):\n    return a / 2", "def f(a):\n    return (n for n in a)", "x = b'a'"),
+    "L8": ("def f(a):\n    return map(a, [])", "def f(a):\n    print(a)"),
+    "L10": ("x = 1" + " " * 120, "def f():\n" + "    a = 1\n" * 40),
+    "L12": ("def _f():\n    return 1", "def f():\n    _a = 1"),
+    "L14": ("x = 1\t", "# \u00e9"),
+    "L15": ("x = 1\nx = 2", "def f(list):\n    return 1", "def f():\n    id = 1"),
+    "L17": ("# a type", "x = 'dataclasses'", "def f(a):\n    return a.format()"),
+    "L20": ("def f(a, b):\n    return a is b",),
+    "L25": ("def f(a):\n    return a.title()", "def f(a):\n    a.sort()"),
+    "L27": ("x = '%'", "def f(n):\n    return 2 ** n"),
+}
+
+
+class TheLook(unittest.TestCase):
+    def test_what_is_ruled_out_is_seen(self):
+        for rule, texts in REFUSED.items():
+            for text in texts:
+                seen = [fault for fault in faults_of(text) if rule in fault]
+                self.assertTrue(seen, (rule, text))
+
+    def test_what_is_allowed_is_passed_by(self):
+        text = '"""Words."""\n\nfrom sieve.bits import parts\n\nTENS = (1, 10)\n\n\n' \
+            "def f(a, b=1):\n    for k, x in enumerate(a):\n        if x is None:\n            return [k, b]\n" \
+            "    return parts(2 ** 5, len(a))\n"
+        self.assertEqual(faults_of(text), [])
+
+
+class ThePackage(unittest.TestCase):
+    def test_nothing_else_lies_in_it(self):
+        files = [file for file in FOLDER.rglob("*") if "__pycache__" not in file.parts]
+        for file in files:
+            self.assertTrue(file.is_file() and file.suffix == ".py", file)
+            self.assertRegex(file.stem, r"^([a-z][a-z0-9_]*|__init__|__main__)$")
+            self.assertFalse(file.stem.startswith("test"), file)
+        self.assertIn("__init__.py", [file.name for file in files])
+
+    def test_each_file_keeps_to_the_rules(self):
+        texts = {file.name: file.read_bytes().decode("ascii") for file in sorted(FOLDER.glob("*.py"))}
+        methods = [name for text in texts.values() for name in methods_of(ast.parse(text))]
+        for name, text in texts.items():
+            self.assertEqual(faults_of(text, methods), [], name)
+
+
+if __name__ == "__main__":
+    unittest.main()
