@@ -1,4 +1,4 @@
-"""Looks at a file of the package for what LANGUAGE.md rules out, as far as a look at its form can tell."""
+"""Looks at the files of the package for what LANGUAGE.md rules out, as far as a look at its form can tell."""
 
 import ast
 import builtins
@@ -151,7 +151,14 @@ def method_faults(tree, own_methods):
     return [f"L25 {name}" for name in called if name not in allowed]
 
 
+def braces_faults(node):
+    """L7: what stands in an f-string's braces."""
+    plain = isinstance(node.value, ast.Name) and node.format_spec is None and node.conversion in (-1, ord("r"))
+    return [] if plain else [f"L7 row {node.lineno}"]
+
+
 LOOKS = {
+    ast.FormattedValue: braces_faults,
     ast.Import: import_faults,
     ast.ImportFrom: import_faults,
     ast.FunctionDef: function_faults,
@@ -187,10 +194,77 @@ def methods_of(tree):
     return [part.name for node in classes for part in node.body if isinstance(part, ast.FunctionDef)]
 
 
+def shadow_faults(tree):
+    """L15: parameters and locals that are called like a class or an import of their file."""
+    taken = [node.name for node in tree.body if isinstance(node, ast.ClassDef)]
+    taken += [alias.name for node in tree.body if isinstance(node, ast.ImportFrom) for alias in node.names]
+    bound = [node.arg for node in ast.walk(tree) if isinstance(node, ast.arg)]
+    bound += [node.id for node in ast.walk(tree) if isinstance(node, ast.Name) and isinstance(node.ctx, ast.Store)]
+    return [f"L15 {name}" for name in bound if name in taken]
+
+
+def class_places(node):
+    """The names in a node that stand where a class may stand."""
+    if isinstance(node, ast.ClassDef):
+        return node.bases
+    if isinstance(node, ast.ExceptHandler):
+        return node.type.elts if isinstance(node.type, ast.Tuple) else [node.type]
+    if not isinstance(node, ast.Call):
+        return [node.value] if isinstance(node, ast.Attribute) and node.attr == "__init__" else []
+    if isinstance(node.func, ast.Name) and node.func.id == "isinstance":
+        return node.args[1].elts if isinstance(node.args[1], ast.Tuple) else node.args[1:]
+    return [node.func]
+
+
+def class_use_faults(tree, own_classes):
+    """L18: classes that are kept, handed on or shown."""
+    allowed = [place for node in ast.walk(tree) for place in class_places(node)]
+    read = [node for node in ast.walk(tree) if isinstance(node, ast.Name) and isinstance(node.ctx, ast.Load)]
+    return [f"L18 {node.id}" for node in read if node.id in own_classes and node not in allowed]
+
+
+def defined_names(tree):
+    """The names that a file's top defines itself."""
+    names = [node.name for node in tree.body if isinstance(node, (ast.FunctionDef, ast.ClassDef))]
+    return names + [target.id for node in tree.body if isinstance(node, ast.Assign) for target in node.targets]
+
+
+def draws(trees):
+    """Of each file, by its full name, which files it draws from and by which name."""
+    return {file: [(node.module, alias.name) for node in tree.body if isinstance(node, ast.ImportFrom)
+                   for alias in node.names] for file, tree in trees.items()}
+
+
+def import_order_faults(trees):
+    """L16: names drawn from a file that does not define them, and files that draw from one another."""
+    drawn = draws(trees)
+    faults = [f"L16 {name} from {module}" for pairs in drawn.values() for module, name in pairs
+              if module not in trees or name not in defined_names(trees[module])]
+    waiting = list(trees)
+    ready = waiting
+    while ready:
+        ready = [file for file in waiting if not [module for module, name in drawn[file] if module in waiting]]
+        waiting = [file for file in waiting if file not in ready]
+    return faults + [f"L16 {file} draws from files in a ring" for file in waiting]
+
+
+def package_faults(texts):
+    """What is seen only where all files of the package, by their full names, are looked at together."""
+    trees = {file: ast.parse(text) for file, text in texts.items()}
+    nodes = [node for tree in trees.values() for node in ast.walk(tree)]
+    methods = [name for tree in trees.values() for name in methods_of(tree)]
+    values = [node.attr for node in nodes if isinstance(node, ast.Attribute) and isinstance(node.ctx, ast.Store)]
+    classes = [node.name for node in nodes if isinstance(node, ast.ClassDef)]
+    faults = import_order_faults(trees) + [f"L18 {name}" for name in values if name in methods]
+    for tree in trees.values():
+        faults += class_use_faults(tree, classes)
+    return faults
+
+
 def faults_of(text, own_methods=()):
     """Each fault that is seen in a file's text, with its rule's number."""
     tree = ast.parse(text)
-    faults = text_faults(text) + top_faults(tree) + method_faults(tree, list(own_methods))
+    faults = text_faults(text) + top_faults(tree) + method_faults(tree, list(own_methods)) + shadow_faults(tree)
     for node in ast.walk(tree):
         faults += node_faults(node)
     return faults

@@ -4,7 +4,7 @@ import ast
 import pathlib
 import unittest
 
-from language import faults_of, methods_of
+from language import faults_of, methods_of, package_faults
 
 FOLDER = pathlib.Path(__file__).resolve().parent.parent / "sieve"
 
@@ -14,16 +14,31 @@ REFUSED = {
     "L4": ("def f(*xs):\n    return xs", "def f(**xs):\n    return xs", "@g\ndef f():\n    return 1"),
     "L5": ("class A(B, C):\n    pass", "class A:\n    x = 1"),
     "L6": ("def f():\n    a = b = 1", "def f():\n    assert 1", "def f():\n    with g:\n        pass"),
-    "L7": ("x = 1.5", "def f(a):\n    return a / 2", "def f(a):\n    return (n for n in a)", "x = b'a'"),
+    "L7": ("x = 1.5", "def f(a):\n    return a / 2", "def f(a):\n    return (n for n in a)", "x = b'a'",
+           "def f(a):\n    return f'{a.b}'", "def f(a):\n    return f'{a:3}'"),
     "L8": ("def f(a):\n    return map(a, [])", "def f(a):\n    print(a)"),
     "L10": ("x = 1" + " " * 120, "def f():\n" + "    a = 1\n" * 40),
     "L12": ("def _f():\n    return 1", "def f():\n    _a = 1"),
     "L14": ("x = 1\t", "# \u00e9"),
-    "L15": ("x = 1\nx = 2", "def f(list):\n    return 1", "def f():\n    id = 1"),
+    "L15": ("x = 1\nx = 2", "def f(list):\n    return 1", "def f():\n    id = 1",
+            "from sieve.bits import parts\ndef f(parts):\n    return 1", "class A:\n    pass\ndef f():\n    A = 1"),
     "L17": ("# a type", "x = 'dataclasses'", "def f(a):\n    return a.format()"),
     "L20": ("def f(a, b):\n    return a is b",),
     "L25": ("def f(a):\n    return a.title()", "def f(a):\n    a.sort()"),
     "L27": ("x = '%'", "def f(n):\n    return 2 ** n"),
+}
+
+REFUSED_TOGETHER = {
+    "L16": (
+        {"sieve.a": "from sieve.b import x", "sieve.b": "from sieve.c import x", "sieve.c": "x = 1"},
+        {"sieve.a": "from sieve.b import y", "sieve.b": "x = 1"},
+        {"sieve.a": "from sieve.b import x\ny = 1", "sieve.b": "from sieve.a import y\nx = 1"},
+    ),
+    "L18": (
+        {"sieve.a": "class A:\n    def x(self):\n        return 1", "sieve.b": "def f(b):\n    b.x = 1"},
+        {"sieve.a": "class A:\n    pass", "sieve.b": "from sieve.a import A\ndef f():\n    return [A]"},
+        {"sieve.a": "class A:\n    pass\ndef f():\n    return str(A)"},
+    ),
 }
 
 
@@ -34,11 +49,26 @@ class TheLook(unittest.TestCase):
                 seen = [fault for fault in faults_of(text) if rule in fault]
                 self.assertTrue(seen, (rule, text))
 
+    def test_what_is_ruled_out_of_files_together_is_seen(self):
+        for rule, packages in REFUSED_TOGETHER.items():
+            for texts in packages:
+                seen = [fault for fault in package_faults(texts) if rule in fault]
+                self.assertTrue(seen, (rule, texts))
+
     def test_what_is_allowed_is_passed_by(self):
         text = '"""Words."""\n\nfrom sieve.bits import parts\n\nTENS = (1, 10)\n\n\n' \
             "def f(a, b=1):\n    for k, x in enumerate(a):\n        if x is None:\n            return [k, b]\n" \
             "    return parts(2 ** 5, len(a))\n"
         self.assertEqual(faults_of(text), [])
+
+    def test_what_is_allowed_of_files_together_is_passed_by(self):
+        texts = {
+            "sieve.a": "class A(ValueError):\n    def __init__(self, x):\n        self.x = x\n",
+            "sieve.b": "from sieve.a import A\n\n\nclass B(A):\n    def __init__(self, x):\n        A.__init__(self, x)\n"
+            "\n\ndef f(b):\n    if isinstance(b, B):\n        raise A(b.x)\n    try:\n        return f(b)\n"
+            "    except A as e:\n        return e.x\n",
+        }
+        self.assertEqual(package_faults(texts), [])
 
 
 class ThePackage(unittest.TestCase):
@@ -55,6 +85,8 @@ class ThePackage(unittest.TestCase):
         methods = [name for text in texts.values() for name in methods_of(ast.parse(text))]
         for name, text in texts.items():
             self.assertEqual(faults_of(text, methods), [], name)
+        modules = {"sieve." + name[:-len(".py")]: text for name, text in texts.items()}
+        self.assertEqual(package_faults(modules), [])
 
 
 if __name__ == "__main__":
