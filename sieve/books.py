@@ -83,7 +83,7 @@ class Book:
             raise TooLong(lengths[MAIN])
         self.default = default
         self.chains = kept
-        self.total = lengths[MAIN]
+        self.lengths = lengths
 
     def chain_names(self):
         """The names of the chains, in the book's order."""
@@ -95,9 +95,18 @@ class Book:
             raise NoChain(name)
         return list(self.chains[name])
 
+    def rule_at(self, name, index):
+        """The rule at an index of a chain, or None where the chain has come to its end."""
+        rules = self.chains[name]
+        return rules[index] if index < len(rules) else None
+
     def length(self):
         """The length of main."""
-        return self.total
+        return self.lengths[MAIN]
+
+    def length_of(self, name):
+        """The length of the chain that is called so."""
+        return self.lengths[name]
 
     def told(self):
         """The book as a tuple (default, list of chains), chains and rules as they are handed in."""

@@ -92,6 +92,12 @@ class Chain(unittest.TestCase):
     def test_without_rules(self):
         self.assertEqual(Book("pass", EXAMPLE).chain("empty"), [])
 
+    def test_rule_by_rule(self):
+        book = Book("pass", EXAMPLE)
+        for name, rules in EXAMPLE:
+            self.assertEqual([book.rule_at(name, index).told() for index in range(len(rules))], rules)
+            self.assertIsNone(book.rule_at(name, len(rules)))
+
     def test_another_name(self):
         book = Book("pass", EXAMPLE)
         for name in ("nobody", "guest", "guestss", "mai", "pass", "a"):
@@ -114,6 +120,11 @@ class Length(unittest.TestCase):
     def test_rules_that_do_not_call(self):
         self.assertEqual(self.length([("main", [PASS])]), 1)
         self.assertEqual(self.length([("main", [PASS, STOP, BACK])]), 3)
+
+    def test_of_each_chain(self):
+        book = Book("pass", EXAMPLE)
+        lengths = [(name, book.length_of(name)) for name in book.chain_names()]
+        self.assertEqual(lengths, [("main", 15), ("empty", 0), ("guests", 4), ("alone", 2), ("late", 1)])
 
     def test_chains_that_nobody_calls(self):
         self.assertEqual(self.length([("main", [PASS]), ("alone", [PASS] * 7)]), 1)

@@ -1,0 +1,85 @@
+"""Boxes, parcels and books for the tests, built without the readers that are tested."""
+
+import random
+
+ADDRESS = 4294967295
+WHOLE = {
+    "turn": (0, 3),
+    "kind": (0, 255),
+    "sender": (0, ADDRESS),
+    "sender_door": (0, 65535),
+    "receiver": (0, ADDRESS),
+    "receiver_door": (0, 65535),
+}
+PLACES = tuple(WHOLE)
+EVERY = tuple(WHOLE.values())
+
+
+def box_with(**stretches):
+    """The box of all parcels but for the stretches that are told; a number stands for itself alone."""
+    wide = {name: (told, told) if isinstance(told, int) else told for name, told in stretches.items()}
+    return tuple({**WHOLE, **wide}[name] for name in PLACES)
+
+
+def parcel_with(**numbers):
+    """A parcel of noughts but for the numbers that are told."""
+    return tuple(numbers.get(name, 0) for name in PLACES)
+
+
+def lies_in(box, parcel):
+    return all(low <= number <= high for (low, high), number in zip(box, parcel))
+
+
+def stretch_by_chance(chance, whole):
+    """Mostly the whole stretch, so that boxes meet often; else one with ends among few numbers."""
+    if chance.random() < 0.85:
+        return whole
+    marks = sorted(chance.choice((0, 1, 2, whole[1] // 2, whole[1] - 1, whole[1])) for side in range(2))
+    return (marks[0], marks[1])
+
+
+def box_by_chance(chance):
+    return tuple(stretch_by_chance(chance, WHOLE[name]) for name in PLACES)
+
+
+def rule_by_chance(chance, later):
+    """A rule that calls, if it does, one of the later names, so that no ring comes about."""
+    head = chance.choice(("pass", "stop", "back", "call", "call", "call") if later else ("pass", "stop", "back"))
+    box = box_by_chance(chance)
+    return (head, box, chance.choice(later)) if head == "call" else (head, box)
+
+
+def length_of(chains, name):
+    rules = dict(chains)[name]
+    return len(rules) + sum(length_of(chains, rule[2]) for rule in rules if rule[0] == "call")
+
+
+def chains_by_chance(chance):
+    """Chains of which main is at most 120 long."""
+    while True:
+        names = ["main", "a", "pass", "chain", "from", "abcdefghijkl"][:chance.randint(1, 6)]
+        chains = [(name, [rule_by_chance(chance, names[place + 1:]) for number in range(chance.randint(0, 7))])
+                  for place, name in enumerate(names)]
+        if length_of(chains, "main") <= 120:
+            return chains[:1] + chance.sample(chains[1:], len(chains) - 1)
+
+
+def books_by_chance(seed, count):
+    """Tuples (default, chains), always the same for one seed."""
+    chance = random.Random(seed)
+    return [(chance.choice(("pass", "stop")), chains_by_chance(chance)) for number in range(count)]
+
+
+def parcels_about(chains, seed, count):
+    """Parcels at the ends of the stretches of the chains' boxes, and one off."""
+    chance = random.Random(seed)
+    boxes = [rule[1] for name, rules in chains for rule in rules] + [EVERY]
+    told = []
+    for number in range(count):
+        numbers = []
+        for place, (low, high) in enumerate(EVERY):
+            ends = chance.choice(boxes)[place]
+            near = chance.choice(ends) + chance.choice((-1, 0, 0, 0, 1))
+            numbers.append(min(max(near, low), high))
+        told.append(tuple(numbers))
+    return told
