@@ -40,16 +40,25 @@ def unfolded(book):
     return rows
 
 
+def ended(rows, default, step):
+    """The word with which a way ends at a step, or None where the step is the number of a row."""
+    if isinstance(step, str):
+        return step
+    return None if step < len(rows) else default
+
+
+def step_from(row, fits):
+    """Where it goes on from a row: a word, or a number."""
+    return row[3] if fits else row[4]
+
+
 def walk(rows, default, parcel):
     """The way of a parcel along rows, as a list of tuples (number, fits), and its word."""
     way = []
-    number = 0
-    while number < len(rows):
-        row = rows[number]
+    step = 0
+    while ended(rows, default, step) is None:
+        row = rows[step]
         fits = has(row[2], parcel)
-        way.append((number, fits))
-        step = row[3] if fits else row[4]
-        if isinstance(step, str):
-            return (way, step)
-        number = step
-    return (way, default)
+        way.append((step, fits))
+        step = step_from(row, fits)
+    return (way, ended(rows, default, step))

@@ -83,3 +83,57 @@ def parcels_about(chains, seed, count):
             numbers.append(min(max(near, low), high))
         told.append(tuple(numbers))
     return told
+
+
+def common_plainly(box, other):
+    both = tuple((max(one[0], two[0]), min(one[1], two[1])) for one, two in zip(box, other))
+    return both if all(low <= high for low, high in both) else None
+
+
+def looked_plainly(rows, default, box, step=0, way=()):
+    """What point 23 tells of a box, each piece followed by a call of its own."""
+    if step == len(rows) or isinstance(step, str):
+        return [(box, list(way), default if step == len(rows) else step)]
+    name, index, other, yes, no = rows[step]
+    both = common_plainly(box, other)
+    if both is None:
+        return looked_plainly(rows, default, box, no, way + ((step, False),))
+    told = looked_plainly(rows, default, both, yes, way + ((step, True),))
+    for place, (low, high) in enumerate(box):
+        for side in ((low, both[place][0] - 1), (both[place][1] + 1, high)):
+            if side[0] <= side[1]:
+                rest = both[:place] + (side,) + box[place + 1:]
+                told += looked_plainly(rows, default, rest, no, way + ((step, False),))
+    return told
+
+
+def small_books_by_chance(seed, count):
+    """Books of few rules that look at turn and kind alone, with ends among few numbers; many are alike."""
+    chance = random.Random(seed)
+    books = []
+    for number in range(count):
+        names = ["main", "a", "b"][:chance.randint(1, 3)]
+        chains = []
+        for place, name in enumerate(names):
+            rules = []
+            for index in range(chance.randint(0, 4)):
+                head = rule_by_chance(chance, names[place + 1:])
+                turns = sorted(chance.choices((0, 1, 3), k=2))
+                kinds = sorted(chance.choices((0, 1, 2, 255), k=2))
+                rules.append(head[:1] + (box_with(turn=tuple(turns), kind=tuple(kinds)),) + head[2:])
+            chains.append((name, rules))
+        books.append((chance.choice(("pass", "stop")), chains))
+    return books
+
+
+# One parcel at least of each sort that the small books can tell from one another.
+GRID = [parcel_with(turn=turn, kind=kind) for turn in range(4) for kind in (0, 1, 2, 3, 254, 255)]
+
+
+def lists_within(told):
+    """Each list in what is told, and this itself if it is one."""
+    found = [told] if isinstance(told, list) else []
+    if isinstance(told, (list, tuple)):
+        for part in told:
+            found += lists_within(part)
+    return found
