@@ -114,3 +114,9 @@ class Book:
         for name in self.chains:
             chains.append((name, [rule.told() for rule in self.chains[name]]))
         return (self.default, chains)
+
+
+def copy_of(book):
+    """A book of its own with the same default and chains."""
+    told = book.told()
+    return Book(told[0], told[1])

@@ -53,24 +53,24 @@ def read_addresses(word):
     return beginning(read_place(sides[0]), read_number(sides[2], ADDRESS_BITS))
 
 
-def pair_values(words):
+def pair_values(words, pair_words):
     """The second words of pairs by their first ones; NoRow where the words are no such pairs."""
     if len(words) % 2 == 1:
         raise NoRow(ALONE)
     told = {}
     for place in range(0, len(words), 2):
         word = words[place]
-        if word not in PAIR_WORDS or word in told:
+        if word not in pair_words or word in told:
             raise NoRow(ALONE)
         told[word] = words[place + 1]
     return told
 
 
-def read_box(words):
-    """The box that the pairs write; where a pair is not there, the stretch is the whole one."""
-    told = pair_values(words)
+def read_pairs(words, pair_words, whole_box):
+    """The box that the pairs write; where a pair is not there, the stretch is that of the whole box."""
+    told = pair_values(words, pair_words)
     stretches = []
-    for word, whole in zip(PAIR_WORDS, every()):
+    for word, whole in zip(pair_words, whole_box):
         if word not in told:
             stretches.append(whole)
         elif word in ADDRESS_WORDS:
@@ -78,6 +78,16 @@ def read_box(words):
         else:
             stretches.append(read_numbers(told[word], whole[1]))
     return tuple(stretches)
+
+
+def read_box(words):
+    """The box of parcels that the pairs write."""
+    return read_pairs(words, PAIR_WORDS, every())
+
+
+def read_label_box(words):
+    """The box of labels that the pairs write; a label has no turn."""
+    return read_pairs(words, PAIR_WORDS[1:], every()[1:])
 
 
 def read_words(words):
@@ -166,13 +176,17 @@ def read_chains(rows):
     return chains
 
 
-def read_book(text):
-    """The book that the text writes; NoRow at the first row that can't stand where it is."""
-    rows = rows_of(text)
+def read_book_rows(rows, first):
+    """The book that the tuples (number, words) write; NoRow with the first number where there is none."""
     if rows == []:
-        raise NoRow(ALONE)
+        raise NoRow(first)
     default = read_numbered(rows[0], read_default)
     return Book(default, read_chains(rows[1:]))
+
+
+def read_book(text):
+    """The book that the text writes; NoRow at the first row that can't stand where it is."""
+    return read_book_rows(rows_of(text), ALONE)
 
 
 def show_book(book):

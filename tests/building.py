@@ -26,6 +26,11 @@ def parcel_with(**numbers):
     return tuple(numbers.get(name, 0) for name in PLACES)
 
 
+def labels_with(**stretches):
+    """The box of all labels but for the stretches that are told."""
+    return box_with(**stretches)[1:]
+
+
 def lies_in(box, parcel):
     return all(low <= number <= high for (low, high), number in zip(box, parcel))
 
@@ -85,6 +90,23 @@ def parcels_about(chains, seed, count):
     return told
 
 
+def read_plainly(chains, name, parcel, steps):
+    """The word that a chain comes to, or None; each rule that is looked at is put behind the steps."""
+    for index, rule in enumerate(chains[name]):
+        fits = lies_in(rule[1], parcel)
+        steps.append((name, index, fits))
+        if not fits:
+            continue
+        if rule[0] in ("pass", "stop"):
+            return rule[0]
+        if rule[0] == "back":
+            return None
+        word = read_plainly(chains, rule[2], parcel, steps)
+        if word is not None:
+            return word
+    return None
+
+
 def common_plainly(box, other):
     both = tuple((max(one[0], two[0]), min(one[1], two[1])) for one, two in zip(box, other))
     return both if all(low <= high for low, high in both) else None
@@ -137,3 +159,104 @@ def lists_within(told):
         for part in told:
             found += lists_within(part)
     return found
+
+
+def flip_plainly(label):
+    return label[:1] + label[3:] + label[1:3]
+
+
+def changed_plainly(label, side, address, door):
+    return label[:1] + (address, door) + label[3:] if side == "from" else label[:3] + (address, door)
+
+
+class GateModel:
+    """A gate told anew from points 30 to 38, with every talk that ever was; the word is asked of each parcel."""
+
+    def __init__(self, word, changes, short, long, most):
+        self.word, self.changes = word, changes
+        self.short, self.long, self.most, self.time, self.talks = short, long, most, 0, []
+
+    def standing(self):
+        return [talk for talk in self.talks if talk["until"] >= self.time and talk["said"] != {"onward", "back"}]
+
+    def going(self, label):
+        """The talk and the side by which the label goes."""
+        for talk in self.standing():
+            if label == flip_plainly(talk["sent"]):
+                return talk, "back"
+            if label == talk["label"]:
+                return talk, "onward"
+        return None, None
+
+    def turn(self, label):
+        talk, side = self.going(label)
+        return 0 if talk is None else 3 if side == "back" else 2 if talk["answered"] else 1
+
+    def choice(self, label):
+        keys = [key for talk in self.standing() for key in (talk["label"], flip_plainly(talk["sent"]))]
+        tried = [[changed_plainly(label, side, address, door) for door in range(doors[0], doors[1] + 1)]
+                 for side, box, address, doors in self.changes if lies_in(box, label)]
+        free = [sent for sent in (tried + [[label]])[0]
+                if label not in keys and flip_plainly(sent) not in keys and label != flip_plainly(sent)]
+        return (free + [None])[0]
+
+    def take(self, moment, label, last):
+        """What the gate tells; its time where the moment is less."""
+        if moment < self.time:
+            return self.time
+        self.time = moment
+        if self.word((self.turn(label),) + label) == "stop":
+            return ("stop", None)
+        talk, side = self.going(label)
+        if talk is None:
+            return self.begin(label, last)
+        talk["answered"] |= side == "back"
+        talk["until"] = self.time + (self.long if talk["answered"] else self.short)
+        talk["said"] |= {side} if last else set()
+        return ("pass", flip_plainly(talk["label"]) if side == "back" else talk["sent"])
+
+    def begin(self, label, last):
+        sent = self.choice(label)
+        if len(self.standing()) == self.most or sent is None:
+            return ("full", None)
+        self.talks.append({"label": label, "sent": sent, "answered": False, "until": self.time + self.short,
+                           "said": {"onward"} if last else set()})
+        return ("pass", sent)
+
+
+def address_text(address):
+    return ".".join(str(address // 256 ** place % 256) for place in (3, 2, 1, 0))
+
+
+def label_text(label):
+    kind, sender, sender_door, receiver, receiver_door = label
+    return f"{kind} {address_text(sender)} {sender_door} {address_text(receiver)} {receiver_door}"
+
+
+def parcel_text(parcel):
+    return f"{parcel[0]} {label_text(parcel[1:])}"
+
+
+def pairs_text(box, words):
+    """All pairs of a box, whole stretches too, each with `-` between."""
+    shown = [address_text if word in ("from", "to") else str for word in words]
+    return " ".join(f"{word} {show(low)}-{show(high)}" for word, show, (low, high) in zip(words, shown, box))
+
+
+RULE_PAIRS = ("turn", "kind", "from", "fromdoor", "to", "todoor")
+
+
+def rule_text(told):
+    return " ".join(told[:1] + told[2:] + (pairs_text(told[1], RULE_PAIRS),))
+
+
+def book_text(default, chains):
+    rows = ["default " + default]
+    for name, rules in chains:
+        rows += ([] if name == "main" else ["chain " + name]) + [rule_text(told) for told in rules]
+    return "\n".join(rows)
+
+
+def change_text(change):
+    side, box, address, doors = change
+    return f"{side} {address_text(address)} {doors[0]}-{doors[1]} {pairs_text(box, RULE_PAIRS[1:])}"

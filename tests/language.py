@@ -33,6 +33,13 @@ REFUSED_WORDS = (
     "NamedTuple TypedDict TYPE_CHECKING abstractmethod"
 ).split()
 REFUSED_WITHIN_WORDS = "dataclass overload contextmanager".split()
+TAKEN_ERRORS = "KeyError ZeroDivisionError StopIteration".split()
+WALKED = "zip enumerate reversed range items keys values".split()
+WALKERS = "list tuple dict sorted sum any all enumerate zip min max join".split()
+READERS = "len list tuple dict sorted sum any all enumerate zip min max".split()
+READING_METHODS = "get items keys values index count".split()
+PYTHON_ATTRIBUTES = {name for kind in (str, int, list, dict, set, tuple, bytes) for name in dir(kind)}
+VALUE_NAMES = "count index title find get join lower upper split strip copy add".split()
 
 
 def text_faults(text):
@@ -194,6 +201,75 @@ def methods_of(tree):
     return [part.name for node in classes for part in node.body if isinstance(part, ast.FunctionDef)]
 
 
+def parents_of(tree):
+    """Each node's own parent."""
+    return {part: node for node in ast.walk(tree) for part in ast.iter_child_nodes(node)}
+
+
+def called_name(node):
+    """The name of the function or method that a call calls, or None."""
+    if not isinstance(node, ast.Call):
+        return None
+    return getattr(node.func, "id", getattr(node.func, "attr", None))
+
+
+def is_walked(node, parent):
+    """Whether a node stands behind the `in` of a loop or a comprehension."""
+    return isinstance(parent, (ast.For, ast.comprehension)) and parent.iter is node
+
+
+def walk_faults(tree):
+    """L23: what is to be walked on the spot, but is kept."""
+    parents = parents_of(tree)
+    made = [node for node in ast.walk(tree) if called_name(node) in WALKED]
+    return [f"L23 row {node.lineno}" for node in made
+            if not is_walked(node, parents[node]) and called_name(parents[node]) not in WALKERS]
+
+
+def set_faults(tree):
+    """L24: sets that are kept or walked."""
+    parents = parents_of(tree)
+    made = [node for node in ast.walk(tree) if isinstance(node, ast.Set) or called_name(node) in ("set", "frozenset")]
+    return [f"L24 row {node.lineno}" for node in made
+            if not isinstance(parents[node], (ast.Compare, ast.BinOp)) and called_name(parents[node]) not in ("sorted", "len")]
+
+
+def is_read(node, parent):
+    """Whether a list or dict of a file's top is only read where it stands."""
+    if isinstance(parent, ast.Subscript):
+        return isinstance(parent.ctx, ast.Load)
+    if isinstance(parent, ast.Attribute):
+        return parent.attr in READING_METHODS
+    return is_walked(node, parent) or isinstance(parent, ast.Compare) or called_name(parent) in READERS
+
+
+def top_value_faults(tree):
+    """L15: lists and dicts of a file's top that hold such ones, or are not only read."""
+    parents = parents_of(tree)
+    kept = [node for node in tree.body if isinstance(node, ast.Assign) and isinstance(node.value, (ast.List, ast.Dict))]
+    faults = [f"L15 row {node.lineno}" for node in kept for part in ast.walk(node.value)
+              if part is not node.value and isinstance(part, (ast.List, ast.Dict))]
+    names = [target.id for node in kept for target in node.targets]
+    used = [node for node in ast.walk(tree) if isinstance(node, ast.Name) and isinstance(node.ctx, ast.Load)]
+    return faults + [f"L15 {node.id}" for node in used if node.id in names and not is_read(node, parents[node])]
+
+
+def error_faults(tree):
+    """L19: Python's own errors that are taken, but for the three that may be anywhere."""
+    handlers = [node for node in ast.walk(tree) if isinstance(node, ast.ExceptHandler) and node.type is not None]
+    taken = [name.id for node in handlers for name in class_places(node)]
+    return [f"L19 {name}" for name in taken if hasattr(builtins, name) and name not in TAKEN_ERRORS]
+
+
+def own_name_faults(tree):
+    """L26: values and methods that are called as Python's own values call theirs."""
+    values = [node.attr for node in ast.walk(tree) if isinstance(node, ast.Attribute) and isinstance(node.ctx, ast.Store)]
+    allowed = OWN_METHODS + DOUBLE_METHODS + ["add", "discard"]
+    methods = [name for name in methods_of(tree) if name not in allowed]
+    faults = [f"L26 {name}" for name in values if name in PYTHON_ATTRIBUTES and name not in VALUE_NAMES]
+    return faults + [f"L26 {name}" for name in methods if name in PYTHON_ATTRIBUTES]
+
+
 def shadow_faults(tree):
     """L15: parameters and locals that are called like a class or an import of their file."""
     taken = [node.name for node in tree.body if isinstance(node, ast.ClassDef)]
@@ -265,6 +341,8 @@ def faults_of(text, own_methods=()):
     """Each fault that is seen in a file's text, with its rule's number."""
     tree = ast.parse(text)
     faults = text_faults(text) + top_faults(tree) + method_faults(tree, list(own_methods)) + shadow_faults(tree)
+    for look in (walk_faults, set_faults, top_value_faults, error_faults, own_name_faults):
+        faults += look(tree)
     for node in ast.walk(tree):
         faults += node_faults(node)
     return faults

@@ -21,10 +21,18 @@ REFUSED = {
     "L12": ("def _f():\n    return 1", "def f():\n    _a = 1"),
     "L14": ("x = 1\t", "# \u00e9"),
     "L15": ("x = 1\nx = 2", "def f(list):\n    return 1", "def f():\n    id = 1",
-            "from sieve.bits import parts\ndef f(parts):\n    return 1", "class A:\n    pass\ndef f():\n    A = 1"),
+            "from sieve.bits import parts\ndef f(parts):\n    return 1", "class A:\n    pass\ndef f():\n    A = 1",
+            "x = {1: [2]}", "x = [(1, {})]", "x = [1]\ndef f():\n    return x", "x = {}\ndef f():\n    x[1] = 2",
+            "x = [1]\ndef f():\n    x.append(2)", "x = [1]\ndef f(g):\n    g(x)"),
     "L17": ("# a type", "x = 'dataclasses'", "def f(a):\n    return a.format()"),
+    "L19": ("def f(g):\n    try:\n        g()\n    except ValueError:\n        pass",
+            "def f(g):\n    try:\n        g()\n    except (KeyError, Exception):\n        pass"),
     "L20": ("def f(a, b):\n    return a is b",),
+    "L23": ("def f(a):\n    b = zip(a, a)", "def f(a):\n    return a.items()", "def f(a, g):\n    return g(range(a))"),
+    "L24": ("def f(a):\n    b = set(a)", "def f(a):\n    for b in set(a):\n        pass", "def f():\n    return {1, 2}"),
     "L25": ("def f(a):\n    return a.title()", "def f(a):\n    a.sort()"),
+    "L26": ("class A:\n    def __init__(self):\n        self.values = 1", "class A:\n    def title(self):\n        return 1",
+            "def f(a):\n    a.real = 1"),
     "L27": ("x = '%'", "def f(n):\n    return 2 ** n"),
 }
 
@@ -58,7 +66,9 @@ class TheLook(unittest.TestCase):
     def test_what_is_allowed_is_passed_by(self):
         text = '"""Words."""\n\nfrom sieve.bits import parts\n\nTENS = (1, 10)\n\n\n' \
             "def f(a, b=1):\n    for k, x in enumerate(a):\n        if x is None:\n            return [k, b]\n" \
-            "    return parts(2 ** 5, len(a))\n"
+            "    return parts(2 ** 5, len(a))\n" \
+            "\n\nNAMES = {1: f}\n\n\ndef g(a, d):\n    b = sorted(d.items())\n    c = [k for k, x in zip(a, b)]\n" \
+            "    return NAMES[1] if a in NAMES and set(a) == set(c) else list(NAMES)\n"
         self.assertEqual(faults_of(text), [])
 
     def test_what_is_allowed_of_files_together_is_passed_by(self):

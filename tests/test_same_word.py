@@ -2,28 +2,11 @@
 
 import unittest
 
-from building import books_by_chance, lies_in, parcels_about
+from building import books_by_chance, parcels_about, read_plainly
 from sieve.books import Book
 from sieve.reading import path, word_of
 from sieve.rows import unfolded, walk
 from sieve.texts import read_book, show_book
-
-
-def read_plainly(chains, name, parcel, steps):
-    """The word that a chain comes to, or None; each rule that is looked at is put behind the steps."""
-    for index, rule in enumerate(chains[name]):
-        fits = lies_in(rule[1], parcel)
-        steps.append((name, index, fits))
-        if not fits:
-            continue
-        if rule[0] in ("pass", "stop"):
-            return rule[0]
-        if rule[0] == "back":
-            return None
-        word = read_plainly(chains, rule[2], parcel, steps)
-        if word is not None:
-            return word
-    return None
 
 
 class SameWord(unittest.TestCase):
